@@ -69,7 +69,8 @@ class TestStrikes(LogCase):
         self.assertEqual(strikes(Book(("abcdefgh",)), "abcdefg"), [])
 
     def test_long_log(self):
-        self.assertEqual(strikes(Book(("b", "a")), "a" * 20000), [(place, 1) for place in range(20000)])
+        # assertEqual would take hours to print how such lists differ.
+        self.assertTrue(strikes(Book(("b", "a")), "a" * 20000) == [(place, 1) for place in range(20000)])
 
     def test_a_new_list_each_time(self):
         first = strikes(K, "aab")
