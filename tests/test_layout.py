@@ -18,6 +18,68 @@ INTERFACE = {
         "is_striking": ["book", "log", "thing"],
         "put_in": ["book", "log", "place", "number"],
     },
+    "tables": {
+        "is_idle": ["book", "log"],
+        "idle_striking": ["book", "log"],
+        "comes_to": ["book", "log", "other"],
+        "idle_stretches": ["book", "log"],
+        "ends": ["book", "log", "most"],
+        "least_left": ["book", "log"],
+        "most_struck": ["book", "log"],
+    },
+    "prices": {
+        "cheapest": ["book", "log", "prices"],
+        "dearest": ["book", "log", "prices"],
+        "many_strikes": ["book", "log"],
+    },
+    "free": {
+        "is_enough": ["book"],
+        "is_endless": ["book", "thing"],
+        "free_texts": ["book"],
+        "longest_free": ["book"],
+        "free_count": ["book", "many"],
+        "endless": ["book"],
+    },
+    "weights": {
+        "is_fitting": ["book", "thing"],
+        "is_shares": ["book", "log", "thing"],
+        "is_bound": ["book", "letter", "number", "thing"],
+        "weight": ["book", "weights", "text"],
+        "barring": ["book", "log"],
+        "shares": ["book", "log"],
+        "least_weight": ["book", "letter"],
+        "bound": ["book", "letter"],
+    },
+    "machines": {
+        "Machine": ["signs", "rows", "lets"],
+        "reached": ["machine", "text"],
+        "lets_by": ["machine", "text"],
+        "is_below": ["machine", "other"],
+        "least": ["machine"],
+        "either": ["machine", "other"],
+        "both": ["machine", "other"],
+        "turned": ["machine"],
+        "apart": ["machine", "other"],
+    },
+    "refuters": {
+        "family": ["book"],
+        "refutal": ["book", "machine"],
+        "refuted": ["book", "start", "step", "lets", "most"],
+        "is_family": ["book", "thing"],
+        "is_refutal": ["book", "machine", "thing"],
+    },
+    "finding": {
+        "least_machine": ["book"],
+        "gap": ["book", "machine"],
+        "stuck": ["book", "machine"],
+        "is_right": ["book", "thing"],
+    },
+    "tongues": {
+        "coming": ["book", "machine"],
+        "left_of": ["book", "machine"],
+        "closed_by": ["book", "texts"],
+        "least_texts": ["book", "machine"],
+    },
 }
 
 BUILTINS = (
@@ -36,6 +98,28 @@ LIBRARY = {
 }
 
 METHODS = ("__init__", "__eq__", "__repr__", "__str__", "__len__")
+
+VALUE_METHODS = (
+    "append clear copy count endswith extend find get index insert isalnum isalpha isdigit islower isspace isupper "
+    "items join keys ljust lower lstrip partition pop remove replace reverse rfind rjust rpartition rsplit rstrip "
+    "setdefault split splitlines startswith strip update upper values zfill bit_length"
+).split()
+
+# No names of anything.
+BARRED_NAMES = (
+    "register mro elements open input law version_info with_traceback add_note attrgetter breakpoint builtins compile "
+    "copyright credits delattr dir eval exec exit gc globals help id importlib license locals methodcaller os quit "
+    "super vars sys format format_map"
+).split()
+
+# Not even within strings.
+BARRED_WORDS = (
+    "type typing typing_extensions enum Enum IntEnum StrEnum Flag IntFlag Generic Protocol ABC ABCMeta namedtuple "
+    "NamedTuple TypedDict TYPE_CHECKING abstractmethod"
+).split()
+
+# What may take a list only, where a class can be compared.
+LIST_TAKERS = ("any", "all", "sum", "min", "max", "sorted")
 
 BARRED = (ast.AsyncFunctionDef, ast.AsyncFor, ast.AsyncWith, ast.Await, ast.Div)
 
@@ -136,3 +220,105 @@ class TestLanguage(unittest.TestCase):
                     self.assertIsInstance(node.ctx, ast.Load, (name, node.lineno))
                 if isinstance(node, ast.arg):
                     self.assertNotIn(node.arg, every, (name, node.lineno))
+
+    def test_no_name_means_two_things(self):
+        for name, tree in trees():
+            outer = [node.name for node in tree.body if isinstance(node, ast.ClassDef)]
+            for node in tree.body:
+                if isinstance(node, ast.ImportFrom):
+                    outer += [alias.name for alias in node.names]
+            top = outer + [node.name for node in tree.body if isinstance(node, ast.FunctionDef)]
+            top += [node.targets[0].id for node in tree.body if isinstance(node, ast.Assign)]
+            self.assertEqual(len(top), len(set(top)), name)
+            for node in ast.walk(tree):
+                if isinstance(node, ast.arg):
+                    self.assertNotIn(node.arg, top, (name, node.lineno))
+                if isinstance(node, ast.Name) and isinstance(node.ctx, ast.Store) and node not in self.assigned(tree):
+                    self.assertNotIn(node.id, top, (name, node.lineno))
+
+    def assigned(self, tree):
+        return [node.targets[0] for node in tree.body if isinstance(node, ast.Assign)]
+
+    def test_names_are_read_and_imports_are_used(self):
+        for name, tree in trees():
+            read = [node.id for node in ast.walk(tree) if isinstance(node, ast.Name) and isinstance(node.ctx, ast.Load)]
+            self.assertNotIn("_", read, name)
+            for node in tree.body:
+                if isinstance(node, ast.ImportFrom):
+                    for alias in node.names:
+                        self.assertIn(alias.name, read, name)
+
+    def test_methods(self):
+        classes = [node for _, tree in trees() for node in ast.walk(tree) if isinstance(node, ast.ClassDef)]
+        methods = {item.name for node in classes for item in node.body if isinstance(item, ast.FunctionDef)}
+        attributes = {
+            node.attr for _, tree in trees() for node in ast.walk(tree)
+            if isinstance(node, ast.Attribute) and isinstance(node.ctx, ast.Store)
+        }
+        self.assertEqual(methods & attributes, set())
+        values = set(dir(str)) | set(dir(int)) | set(dir(list)) | set(dir(dict)) | set(dir(set)) | set(dir(bytes))
+        self.assertEqual((methods | attributes) & values - set(METHODS), set())
+        for name, tree in trees():
+            for node in ast.walk(tree):
+                if isinstance(node, ast.Attribute):
+                    self.assertIn(node.attr, list(methods | attributes) + VALUE_METHODS, (name, node.lineno))
+                if isinstance(node, ast.Call) and isinstance(node.func, ast.Attribute):
+                    self.assertEqual(node.keywords, [], (name, node.lineno))
+
+    def test_barred_names_and_words(self):
+        for path in files():
+            tree = ast.parse(path.read_text(encoding="utf-8"))
+            for node in ast.walk(tree):
+                for field in ("id", "arg", "attr", "name"):
+                    word = getattr(node, field, None)
+                    self.assertNotIn(word, BARRED_NAMES + BARRED_WORDS, (path.name, getattr(node, "lineno", 0)))
+                    self.assertFalse(isinstance(word, str) and word.startswith("__") and word not in METHODS, word)
+                if isinstance(node, ast.Constant) and isinstance(node.value, str):
+                    self.assertNotIn("%", node.value, path.name)
+            self.assertNotIn("_wall", path.read_text(encoding="utf-8"))
+
+    def test_forms(self):
+        for name, tree in trees():
+            for node in ast.walk(tree):
+                where = (name, getattr(node, "lineno", 0))
+                if isinstance(node, ast.Compare):
+                    for sign, right in zip(node.ops, node.comparators):
+                        if isinstance(sign, (ast.Is, ast.IsNot)):
+                            self.assertIn(getattr(right, "value", 0), (None, True, False), where)
+                self.assertNotIsInstance(node, (ast.GeneratorExp, ast.Yield, ast.YieldFrom, ast.Global, ast.Starred), where)
+                self.assertNotIsInstance(node, (ast.Match, ast.With, ast.NamedExpr, ast.Nonlocal, ast.AnnAssign), where)
+                if isinstance(node, ast.ExceptHandler):
+                    self.assertNotIn(getattr(node.type, "id", "all"), ("all", "Exception") + tuple(BUILTINS), where)
+                if isinstance(node, ast.Call) and isinstance(node.func, ast.Name):
+                    self.assert_call(node, where)
+
+    def assert_call(self, node, where):
+        keywords = [keyword.arg for keyword in node.keywords]
+        if node.func.id in BUILTINS:
+            self.assertLessEqual(set(keywords), {"key", "reverse", "default", "start"}, where)
+        if node.func.id == "set":
+            self.assertEqual(len(node.args), 1, where)
+        if node.func.id in LIST_TAKERS:
+            self.assertTrue(node.args, where)
+
+    def test_loops_change_nothing_that_they_go_over(self):
+        for name, tree in trees():
+            for node in ast.walk(tree):
+                if isinstance(node, ast.For):
+                    over = {item.id for item in ast.walk(node.iter) if isinstance(item, ast.Name)}
+                    self.assertEqual(self.changed(node.body) & over, set(), (name, node.lineno))
+
+    def changed(self, body):
+        """The names of what a body changes in place, or gives another value."""
+        found = set()
+        for top in body:
+            for node in ast.walk(top):
+                if isinstance(node, ast.Call) and isinstance(node.func, ast.Attribute):
+                    if node.func.attr in ("append", "pop", "extend", "insert", "remove", "clear", "update", "setdefault"):
+                        found.add(getattr(node.func.value, "id", None))
+                if isinstance(node, (ast.Assign, ast.AugAssign)):
+                    for target in node.targets if isinstance(node, ast.Assign) else [node.target]:
+                        while isinstance(target, ast.Subscript):
+                            target = target.value
+                        found.add(getattr(target, "id", None))
+        return found - {None}

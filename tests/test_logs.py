@@ -1,46 +1,15 @@
 """Point 1.2: strikes, strikings, pieces put in. Example e01."""
 
-import itertools
 import unittest
 
 from struckpieces.books import Book, letters
-from struckpieces.errors import LogError, NoLog, NoPiece, NoPlace, NoStrike, NoStriking
+from struckpieces.errors import NoLog, NoPiece, NoPlace, NoStrike, NoStriking
 from struckpieces.logs import is_striking, left_by, put_in, strikes, struck
+from tests.cases import Case
+from tests.plain import AB, BB, K, NESTS, strikes_in, texts
 from tests.things import deep_things, huge_integers, not_logs, not_numbers, not_tuples, odd_things
 
-BB = Book(("a", "bb"))
-AB = Book(("ab",))
-K = Book(("aa", "bb", "ab"))
-NESTS = Book(("a", "aa", "aba", "b", "c", "abcab"))
 BOOKS = (BB, AB, K, NESTS, Book(("c", "ba", "abcabcab")))
-
-
-def texts(signs, most):
-    for many in range(most + 1):
-        for text in itertools.product(signs, repeat=many):
-            yield "".join(text)
-
-
-def told_strikes(book, log):
-    """The strikes, letter by letter."""
-    found = []
-    for place in range(len(log)):
-        for number in range(len(book.pieces)):
-            piece = book.pieces[number]
-            stands = [place + k < len(log) and log[place + k] == piece[k] for k in range(len(piece))]
-            if all(stands):
-                found.append((place, number))
-    return found
-
-
-class LogCase(unittest.TestCase):
-
-    def refused(self, made, call, *arguments):
-        """The call raises just this error; returns it."""
-        with self.assertRaises(LogError) as found:
-            call(*arguments)
-        self.assertIs(type(found.exception), made)
-        return found.exception
 
 
 class TestExample(unittest.TestCase):
@@ -51,12 +20,12 @@ class TestExample(unittest.TestCase):
         self.assertEqual(letters(K), "ab")
 
 
-class TestStrikes(LogCase):
+class TestStrikes(Case):
 
     def test_all_of_short_logs(self):
         for book in BOOKS:
             for log in texts("abc", 6):
-                self.assertEqual(strikes(book, log), told_strikes(book, log), (book.pieces, log))
+                self.assertEqual(strikes(book, log), strikes_in(book, log), (book.pieces, log))
 
     def test_edges(self):
         self.assertEqual(strikes(K, ""), [])
@@ -86,12 +55,12 @@ class TestStrikes(LogCase):
             self.refused(NoLog, strikes, K, thing)
 
 
-class TestStruck(LogCase):
+class TestStruck(Case):
 
     def test_all_of_short_logs(self):
         for book in BOOKS:
             for log in texts("abc", 5):
-                for place, number in told_strikes(book, log):
+                for place, number in strikes_in(book, log):
                     left = struck(book, log, (place, number))
                     self.assertEqual(left, log[:place] + log[place + len(book.pieces[number]):])
 
@@ -133,7 +102,7 @@ class TestStruck(LogCase):
             self.refused(NoLog, struck, K, thing, None)
 
 
-class TestStrikings(LogCase):
+class TestStrikings(Case):
 
     def test_the_empty_one(self):
         for log in ("", "a", "aab", "hhh"):
@@ -158,7 +127,7 @@ class TestStrikings(LogCase):
         for place in range(len(left) + 1):
             for number in range(len(book.pieces) + 1):
                 longer = striking + ((place, number),)
-                if (place, number) in told_strikes(book, left):
+                if (place, number) in strikes_in(book, left):
                     self.walk(book, log, left[:place] + left[place + len(book.pieces[number]):], longer)
                 else:
                     self.assertEqual(self.refused(NoStriking, left_by, book, log, longer).at, len(striking))
@@ -212,7 +181,7 @@ class TestStrikings(LogCase):
             self.refused(NoLog, is_striking, K, thing, None)
 
 
-class TestPutIn(LogCase):
+class TestPutIn(Case):
 
     def test_at_each_place(self):
         self.assertEqual([put_in(AB, "cde", place, 0) for place in range(4)], ["abcde", "cabde", "cdabe", "cdeab"])

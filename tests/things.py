@@ -2,6 +2,7 @@
 
 from struckpieces.books import Book
 from struckpieces.errors import BadBook, NoLog
+from struckpieces.machines import Machine
 
 
 def nested_tuple(depth, core=()):
@@ -50,7 +51,7 @@ def odd_things():
         [], ["a"], [0, 0], [(0, 0)], {}, {"a": 1}, {0: 0}, {(0, 0): True},
         {}.keys(), {"a": 1}.items(), range(2), slice(0, 1), iter([1]), zip("a", "a"), generated(),
         int, str, tuple, object, object(), len, deep_things, "a".startswith, lambda thing: thing,
-        Book(("a",)), Book, NoLog(), BadBook("pieces"), ValueError("a"), property(),
+        Book(("a",)), Book, Machine("a", ((0,),), (True,)), Machine, NoLog(), BadBook("pieces"), ValueError("a"), property(),
     ]
 
 
@@ -72,3 +73,11 @@ def not_logs():
 
 def not_tuples():
     return odd_things() + deep_things()[2:4] + deep_things()[7:] + [0, 1, huge_integers()[0], "", "a", "ab", "(0, 0)"]
+
+
+def not_fractions():
+    """What is no fraction."""
+    return odd_things() + deep_things() + [
+        0, 1, -1, "1", (), (1,), (1, 1, 1), (1, 0), (1, -1), (0, -1), (0, 0), (0, 2), (2, 4), (-3, 3), [1, 1],
+        (True, 1), (1, True), (False, 1), ("1", "1"), (1, "1"), (1, None), (1, (1,)), ((1, 1), 1), (1, huge_integers()[1]),
+    ]
