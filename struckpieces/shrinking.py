@@ -20,12 +20,10 @@ class Parts:
         self.end = [many]
 
     def mark(self, standing):
-        """Marks a standing; returns whether it is the first one of its part."""
+        """Marks a standing that is not marked; returns whether it is the first one of its part."""
         part = self.part[standing]
         place = self.place[standing]
         border = self.marked[part]
-        if place < border:
-            return False
         other = self.order[border]
         self.order[border] = standing
         self.order[place] = other
@@ -60,7 +58,7 @@ class Parts:
         return self.order[self.begin[part]:self.end[part]]
 
     def split_by(self, standings):
-        """Parts those of the standings from the others in each part."""
+        """Parts those of the standings, each named once, from the others in each part."""
         touched = [self.part[standing] for standing in standings if self.mark(standing)]
         for part in touched:
             self.divide(part)
