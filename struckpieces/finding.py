@@ -6,7 +6,7 @@ from struckpieces.errors import NotEnough, TooMany
 from struckpieces.exploring import first_texts, first_way
 from struckpieces.free import is_enough
 from struckpieces.guessing import learned
-from struckpieces.logs import put_in, strikes, struck
+from struckpieces.logs import put_in
 from struckpieces.machines import lets_by, run, side_by_side
 from struckpieces.refuters import is_own, need_own
 from struckpieces.unstruck import Unstruck
@@ -52,18 +52,14 @@ class IdleReader:
     def wrong_text(self, machine):
         """A text on which a machine errs that lets the empty one by, or None."""
         found = gap(self.book, machine)
-        if found is not None:
-            front, number, back = found
-            # Is it right about the one without the piece, then this is idle, and so is the one with it.
-            if not self.meet(front, back):
-                return front + back
-            return put_in(self.book, front + back, len(front), number)
-        text = stuck(self.book, machine)
-        if text is None or not self.meet(text, ""):
-            return text
-        # Some strike of an idle text leaves an idle one; the machine lets none by that a strike leaves.
-        left = [struck(self.book, text, strike) for strike in strikes(self.book, text)]
-        return [other for other in left if self.meet(other, "")][0]
+        if found is None:
+            # Then it lets all idle logs by, so what is stuck is none: its strikes leave nothing that is let by.
+            return stuck(self.book, machine)
+        front, number, back = found
+        # Is it right about the one without the piece, then this is idle, and so is the one with it.
+        if not self.meet(front, back):
+            return front + back
+        return put_in(self.book, front + back, len(front), number)
 
 
 def least_machine(book):

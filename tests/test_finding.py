@@ -70,6 +70,15 @@ class TestLeastMachine(Case):
         self.assertEqual(least_machine(Book(("aaa", "aaaaa"))).lets, (True, False, False, True, False, True, True, False, True))
         self.assertEqual(least_machine(Book(("b", "a"))), Machine("ab", ((0, 0),), (True,)))
 
+    def test_books_that_are_hard_to_guess(self):
+        for pieces in [("aa", "ba", "aaa", "bb"), ("ac", "b", "bb", "cac", "aa", "cc"), ("abb", "bbb", "bba", "a", "aaa")]:
+            book = Book(pieces)
+            own = letters(book)
+            machine = least_machine(book)
+            idle = idle_logs(book, FEW[own])
+            for text in texts(own, FEW[own]):
+                self.assertIs(does_let(machine, text), text in idle)
+
     def test_not_enough(self):
         for book in (AB, Book(("aa", "bbb")), Book(("abcdefgh",))):
             self.refused(NotEnough, least_machine, book)
@@ -165,6 +174,8 @@ class TestGapsAndStuckTexts(Case):
         self.assertIsNone(stuck(Book(("a",)), Machine("a", ((0,),), (True,))))
         self.assertEqual(stuck(AB, Machine("ab", ((0, 0),), (True,))), "a")
         self.assertEqual(stuck(AB, only("ab", "aaabbb")), "aaabbb")
+        self.assertEqual(stuck(AB, only("ab", "bbb")), "bbb")
+        self.assertEqual(stuck(AB, only("ab", "bbbaaa")), "bbbaaa")
         self.assertIsNone(stuck(AB, only("ab", "")))
 
     def test_right_but_not_least(self):
