@@ -110,6 +110,20 @@ class TestLeftOf(Case):
                     self.assertTrue(self.is_left(book, machine, text), (book.pieces, machine.rows, machine.lets, text))
         self.assertGreater(len(sizes), 4)
 
+    def test_machines_that_are_hard_to_guess(self):
+        for pieces, rows, lets in [
+            (("abab",), ((1, 0), (2, 2), (1, 1)), (False, True, False)),
+            (("abb",), ((1, 0), (0, 2), (1, 0)), (False, True, True)),
+            (("baab", "bbbb"), ((0, 1), (2, 2), (1, 1)), (True, True, False)),
+            (("cc", "bac", "bcc"), ((1, 3, 1), (2, 3, 0), (2, 1, 3), (3, 3, 3)), (False, True, False, False)),
+        ]:
+            book = Book(pieces)
+            machine = Machine(letters(book), rows, lets)
+            found = left_of(book, machine)
+            self.assertTrue(is_least(found))
+            for text in texts(machine.signs, FEW[machine.signs]):
+                self.assertIs(does_let(found, text), self.is_left(book, machine, text))
+
     def is_left(self, book, machine, text):
         """Whether a text is left of one that is let by: standings to which idle logs lead, found by going round."""
         many = range(len(machine.rows))
