@@ -15,7 +15,7 @@ class Guess:
     """A standing for the marks of each of some texts that tests tell apart."""
 
     def __init__(self, reader, most):
-        self.reader = reader
+        self.asked = reader
         self.most = most
         self.tests = reader.first_tests()
         self.told = {}
@@ -24,19 +24,19 @@ class Guess:
     def answers(self, marks):
         """What the tests tell of marks."""
         told = self.told.get(marks, ())
-        told += tuple([self.reader.meet(marks, test) for test in self.tests[len(told):]])
+        told += tuple([self.asked.meet(marks, test) for test in self.tests[len(told):]])
         self.told[marks] = told
         return told
 
     def guessed(self):
         """The machine that tells what the tests tell; TooMany(most) for more standings than most."""
-        self.marks = [self.reader.first()]
+        self.marks = [self.asked.first()]
         numbers = {self.answers(self.marks[0]): 0}
         rows = []
         while len(rows) < len(self.marks):
             row = []
-            for sign in range(len(self.reader.signs)):
-                marks = self.reader.step(self.marks[len(rows)], sign)
+            for sign in range(len(self.asked.signs)):
+                marks = self.asked.step(self.marks[len(rows)], sign)
                 answers = self.answers(marks)
                 if answers not in numbers:
                     numbers[answers] = len(numbers)
@@ -46,20 +46,20 @@ class Guess:
             # What tests tell apart stands apart in every right machine.
             if len(numbers) > self.most:
                 raise TooMany(self.most)
-        return Machine(self.reader.signs, tuple(rows), tuple([self.answers(marks)[0] for marks in self.marks]))
+        return Machine(self.asked.signs, tuple(rows), tuple([self.answers(marks)[0] for marks in self.marks]))
 
     def learn(self, machine, wrong):
         """Takes a test more, which tells two texts apart that the machine, the last guess, wrongly brings together."""
         signs = [machine.signs.index(sign) for sign in wrong]
-        tests = [self.reader.last()]
+        tests = [self.asked.last()]
         for sign in reversed(signs):
-            tests.append(self.reader.back(tests[-1], sign))
+            tests.append(self.asked.back(tests[-1], sign))
         standing = 0
-        right = self.reader.meet(self.marks[0], tests.pop())
+        right = self.asked.meet(self.marks[0], tests.pop())
         for sign in signs:
             standing = machine.rows[standing][sign]
             test = tests.pop()
-            if self.reader.meet(self.marks[standing], test) != right:
+            if self.asked.meet(self.marks[standing], test) != right:
                 # Shorter tests come for nothing, and may spare another round.
                 self.tests += [other for other in tests + [test] if other not in self.tests]
                 return

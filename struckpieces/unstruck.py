@@ -51,7 +51,7 @@ class Unstruck:
 
     def first(self):
         """The state ahead of all texts."""
-        return self.kept(0, 0, 0)
+        return self.pruned(0, 0, 0)
 
     def step(self, state, sign):
         """The state behind a sign, told by its number."""
@@ -69,14 +69,14 @@ class Unstruck:
                 after |= 1 << ahead
             if text in self.numbers:
                 longer |= 1 << (self.numbers[text] * self.many + ahead)
-        return self.kept(self.machine.rows[standing][sign], after, longer)
+        return self.pruned(self.machine.rows[standing][sign], after, longer)
 
     def strike_under_way(self, bit):
         """The pair of the beginning of a piece that is read, and the standing ahead of it."""
         number, ahead = divmod(bit, self.many)
         return self.beginnings[number], ahead
 
-    def kept(self, standing, left, under):
+    def pruned(self, standing, left, under):
         """A state, or None if from its standing nothing is let by but what is let by from one of those left, too."""
         if self.wider[standing] & left or self.is_barren(standing):
             return None

@@ -87,6 +87,12 @@ class TestFree(Case):
         self.too_many(3000, free_texts, more)
         self.assertEqual(longest_free(more), 6 + 6 + 7 + 7)
 
+    def test_lists_are_new(self):
+        first = free_texts(K)
+        first.append("more")
+        self.assertEqual(free_texts(K), ["", "a", "b", "ba"])
+        self.assertEqual(endless(AB), endless(AB))
+
     def test_longest(self):
         self.assertEqual([longest_free(book) for book in (Book(("a",)), BB, K, STEPS)], [0, 1, 2, 14])
         self.assertEqual(longest_free(Book(("a" * 8,))), 7)

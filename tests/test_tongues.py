@@ -286,6 +286,15 @@ class TestClosedBy(Case):
         for book in (FULL, K, BB, ABBA):
             self.too_many(300, closed_by, book, ["".join(chance.choice("ab") for _ in range(60)) for _ in range(50)])
 
+    def test_nothing_is_changed_and_lists_are_new(self):
+        chosen = ["ba", "", "ba", "a"]
+        closed = closed_by(K, chosen)
+        self.assertEqual(chosen, ["ba", "", "ba", "a"])
+        first = least_texts(K, closed)
+        first.append("more")
+        self.assertEqual(least_texts(K, closed), first[:-1])
+        self.assertEqual(closed_by(K, chosen), closed)
+
     def test_no_texts(self):
         wrong = odd_things() + deep_things() + [0, "", "ab", {"ab": 1}, [""] * 51, ("",) * 51, ["a" * 61], ("a", "b" * 61)]
         wrong += [["h"], ["abc"], ("a", ["a"]), ["a", 0], iter(["a"])]
