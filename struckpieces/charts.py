@@ -47,8 +47,12 @@ class Chart:
         """For each letter of a piece the places behind it, the first one at the place, idle stretches between them."""
         trail = [1 << (place - 1)]
         for letter in piece[1:]:
-            trail.append((self.spread(trail[-1]) & self.standing.get(letter, 0)) >> 1)
+            trail.append(self.past(trail[-1], letter))
         return trail
+
+    def past(self, places, letter):
+        """The places behind a letter up to which idle stretches reach from any of the places."""
+        return (self.spread(places) & self.standing.get(letter, 0)) >> 1
 
     def is_idle(self):
         """Whether the whole text is idle."""

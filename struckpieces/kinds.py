@@ -1,4 +1,4 @@
-"""Of what kind an object is, for all modules."""
+"""Of what kind an object is, and how texts are ordered, for all modules."""
 
 from struckpieces.errors import NoLog, TooMany
 
@@ -41,3 +41,8 @@ def need_short(log):
     """Raises TooMany for a log of more than 60 letters."""
     if len(log) > LONGEST_LOG:
         raise TooMany(LONGEST_LOG)
+
+
+def shortest_first(texts):
+    """The list of the texts, each once: those of fewer signs first, those of as many ascending."""
+    return [text for _, text in sorted(set([(len(text), text) for text in texts]))]

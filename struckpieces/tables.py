@@ -2,7 +2,7 @@
 
 from struckpieces.charts import chart_of, is_stretch, striking_but
 from struckpieces.errors import NoNumber, TooMany
-from struckpieces.kinds import LONGEST_LOG, is_log, is_within, need_log, need_short
+from struckpieces.kinds import LONGEST_LOG, is_log, is_within, need_log, need_short, shortest_first
 from struckpieces.logs import strikes, struck
 
 MOST_TEXTS = 500
@@ -118,11 +118,11 @@ def ends(book, log, most):
         text = texts.pop()
         left = [struck(book, text, strike) for strike in strikes(book, text)]
         if not left:
-            found.append((len(text), text))
+            found.append(text)
         for other in left:
             if other not in seen:
                 seen[other] = True
                 texts.append(other)
         if len(seen) > most:
             raise TooMany(most)
-    return [text for _, text in sorted(found)]
+    return shortest_first(found)

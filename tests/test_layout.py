@@ -80,6 +80,25 @@ INTERFACE = {
         "closed_by": ["book", "texts"],
         "least_texts": ["book", "machine"],
     },
+    "bases": {
+        "needless": ["book"],
+        "base": ["book"],
+        "parting": ["book", "other"],
+        "is_held": ["book", "other"],
+    },
+    "counts": {
+        "count": ["machine", "many"],
+        "index_of": ["machine", "text"],
+        "idle_count": ["book", "many"],
+        "text_at": ["machine", "many", "index"],
+    },
+    "rests": {"one_rest": ["book"], "meetings": ["book"]},
+    "goings": {
+        "dead_letters": ["book"],
+        "going_on": ["book", "log"],
+        "between": ["book", "one", "other"],
+        "fewest_more": ["book", "log"],
+    },
 }
 
 BUILTINS = (
@@ -288,7 +307,8 @@ class TestLanguage(unittest.TestCase):
                 self.assertNotIsInstance(node, (ast.GeneratorExp, ast.Yield, ast.YieldFrom, ast.Global, ast.Starred), where)
                 self.assertNotIsInstance(node, (ast.Match, ast.With, ast.NamedExpr, ast.Nonlocal, ast.AnnAssign), where)
                 if isinstance(node, ast.ExceptHandler):
-                    self.assertNotIn(getattr(node.type, "id", "all"), ("all", "Exception") + tuple(BUILTINS), where)
+                    for caught in getattr(node.type, "elts", [node.type]):
+                        self.assertNotIn(getattr(caught, "id", "all"), ("all", "Exception") + tuple(BUILTINS), where)
                 if isinstance(node, ast.Call) and isinstance(node.func, ast.Name):
                     self.assert_call(node, where)
 
