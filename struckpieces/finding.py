@@ -20,6 +20,7 @@ class IdleReader:
     def __init__(self, book):
         self.book = book
         self.signs = letters(book)
+        self.charts = {}
         self.idle = {}
 
     def first(self):
@@ -46,7 +47,10 @@ class IdleReader:
         """Whether marks and a test are an idle log, of whatever length."""
         text = marks + test
         if text not in self.idle:
-            self.idle[text] = chart_of(self.book, text).is_idle()
+            # Many texts end in the same test.
+            if test not in self.charts:
+                self.charts[test] = chart_of(self.book, test)
+            self.idle[text] = self.charts[test].grown(marks).is_idle()
         return self.idle[text]
 
     def wrong_text(self, machine):

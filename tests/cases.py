@@ -1,8 +1,20 @@
 """What tests of all modules ask."""
 
 import unittest
+from unittest import mock
 
+from struckpieces import judging
 from struckpieces.errors import LogError, TooMany
+from struckpieces.finding import least_machine
+
+FOUND = {}
+
+
+def found_machine(book):
+    """The least machine of a book, worked out but once."""
+    if book.pieces not in FOUND:
+        FOUND[book.pieces] = least_machine(book)
+    return FOUND[book.pieces]
 
 
 class Case(unittest.TestCase):
@@ -23,3 +35,12 @@ class Case(unittest.TestCase):
     def flagged(self, flag, call, *arguments):
         """The call returns just this flag."""
         self.assertIs(call(*arguments), flag, arguments[-1])
+
+
+class JudgedCase(Case):
+    """Tests that ask much of few books: their machines, which have tests of their own, are worked out but once."""
+
+    def setUp(self):
+        patch = mock.patch.object(judging, "least_machine", found_machine)
+        patch.start()
+        self.addCleanup(patch.stop)
