@@ -6,6 +6,8 @@ from unittest import mock
 from struckpieces import judging
 from struckpieces.errors import LogError, TooMany
 from struckpieces.finding import least_machine
+from struckpieces.free import is_enough
+from tests.plain import random_book, seeded
 
 FOUND = {}
 
@@ -15,6 +17,19 @@ def found_machine(book):
     if book.pieces not in FOUND:
         FOUND[book.pieces] = least_machine(book)
     return FOUND[book.pieces]
+
+
+def enough_books(number, many=40):
+    """Of so many books at random those that are enough and have a machine of at most 60 standings."""
+    chance = seeded(number)
+    for _ in range(many):
+        book = random_book(chance, chance.choice(["a", "ab", "ab", "abc", "abcd"]), 6, 4, True)
+        if is_enough(book):
+            try:
+                found_machine(book)
+                yield book
+            except TooMany:
+                pass
 
 
 class Case(unittest.TestCase):

@@ -11,6 +11,8 @@ AB = Book(("ab",))
 K = Book(("aa", "bb", "ab"))
 NESTS = Book(("a", "aa", "aba", "b", "c", "abcab"))
 ABBA = Book(("aba", "bb", "abb", "aa"))
+# It is enough, and its least machine has more than 60 standings.
+HUGE = Book(("ccc", "ccb", "bc", "bb", "a", "ca", "bbb", "cab", "bcb"))
 
 
 def texts(signs, most):

@@ -7,13 +7,12 @@ from struckpieces.finding import least_machine
 from struckpieces.free import is_enough
 from struckpieces.machines import Machine, lets_by
 from tests.cases import Case
-from tests.plain import AB, ABBA, BB, K, NESTS, counter, does_let, idle_logs, only, random_book, random_machine, seeded, texts
+from tests.plain import AB, ABBA, BB, HUGE, K, NESTS
+from tests.plain import counter, does_let, idle_logs, only, random_book, random_machine, seeded, texts
 from tests.things import deep_things, huge_integers, not_logs, not_numbers, odd_things
 
 ALL = Machine("abcdefgh", ((0,) * 8,), (True,))
 NONE = Machine("abcdefgh", ((0,) * 8,), (False,))
-# Books whose least machine has more than 60 standings.
-HUGE = Book(("ccc", "ccb", "bc", "bb", "a", "ca", "bbb", "cab", "bcb"))
 
 
 def machines():

@@ -6,13 +6,12 @@ from struckpieces.finding import gap, is_right, least_machine, stuck
 from struckpieces.free import is_enough
 from struckpieces.machines import Machine, lets_by, turned
 from tests.cases import Case
-from tests.plain import AB, ABBA, BB, K, counter, does_let, idle_logs, is_least, one_struck, only
+from tests.plain import AB, ABBA, BB, HUGE, K, counter, does_let, idle_logs, is_least, one_struck, only
 from tests.plain import random_book, random_machine, seeded, texts
 from tests.things import deep_things, not_logs, odd_things
 
-# 33 and 51 standings, and more than 60.
+# 22, 55 and 55 standings.
 LARGE = (Book(("aab", "ab", "bb", "aa")), ABBA, Book(("bb", "ae", "cebe", "cd", "a", "ecc", "ccc", "b", "d", "cacc", "e")))
-HUGE = Book(("ccc", "ccb", "bc", "bb", "a", "ca", "bbb", "cab", "bcb"))
 FEW = {"a": 12, "ab": 9, "abc": 6, "abcd": 5, "abcde": 4, "abcdefgh": 3}
 
 

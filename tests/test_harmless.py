@@ -10,11 +10,10 @@ from struckpieces.harmless import cleaned, harm, harmless_strikes, is_harmless, 
 from struckpieces.logs import left_by, strikes
 from struckpieces.machines import reached
 from struckpieces.tables import is_idle
-from tests.cases import Case, JudgedCase, found_machine
-from tests.plain import AB, ABBA, BB, K, idle_logs, left, one_struck, random_book, seeded, shortest_first, strikes_in, texts
+from tests.cases import Case, JudgedCase, enough_books, found_machine
+from tests.plain import AB, ABBA, BB, HUGE, K, idle_logs, left, one_struck, seeded, shortest_first, strikes_in, texts
 from tests.things import deep_things, huge_integers, not_logs, odd_things
 
-HUGE = Book(("ccc", "ccb", "bc", "bb", "a", "ca", "bbb", "cab", "bcb"))
 NOT_ENOUGH = (AB, Book(("abcdefgh",)), Book(("aa", "bbb")))
 FEW = {"a": 10, "ab": 7, "abc": 5, "abcd": 4, "abcdefgh": 2}
 
@@ -22,15 +21,7 @@ FEW = {"a": 10, "ab": 7, "abc": 5, "abcd": 4, "abcdefgh": 2}
 def books(number=161, many=60):
     """Books that are enough and have a machine of at most 60 standings."""
     yield from (BB, K, ABBA, Book(("a" * 7, "a" * 8)), Book(("aab", "ab", "bb", "aa")), Book(tuple("abcdefgh")))
-    chance = seeded(number)
-    for _ in range(many):
-        book = random_book(chance, chance.choice(["a", "ab", "ab", "abc", "abcd"]), 6, 4, True)
-        if is_enough(book):
-            try:
-                found_machine(book)
-                yield book
-            except TooMany:
-                pass
+    yield from enough_books(number, many)
 
 
 def some_logs(book, longest=14):

@@ -5,24 +5,14 @@ from struckpieces.errors import LogError, NoLog, NoNumber, NoPlace, NotEnough, N
 from struckpieces.free import is_enough
 from struckpieces.live import Live
 from struckpieces.tables import is_idle, least_left
-from tests.cases import JudgedCase, found_machine
-from tests.plain import AB, ABBA, BB, K, NESTS, does_let, random_book, seeded
-from tests.things import deep_things, huge_integers, not_logs, not_numbers, odd_things
-
-HUGE = Book(("ccc", "ccb", "bc", "bb", "a", "ca", "bbb", "cab", "bcb"))
+from tests.cases import JudgedCase, enough_books, found_machine
+from tests.plain import AB, ABBA, BB, HUGE, K, NESTS, does_let, seeded
+from tests.things import deep_things, not_logs, not_numbers, odd_things
 
 
 def books():
     yield from (BB, K, ABBA, Book(("a" * 7, "a" * 8)), Book(("aab", "ab", "bb", "aa")), Book(tuple("abcdefgh")))
-    chance = seeded(181)
-    for _ in range(40):
-        book = random_book(chance, chance.choice(["a", "ab", "ab", "abc", "abcd"]), 6, 4, True)
-        if is_enough(book):
-            try:
-                found_machine(book)
-                yield book
-            except TooMany:
-                pass
+    yield from enough_books(181)
 
 
 def knots(log):

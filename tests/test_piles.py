@@ -12,11 +12,9 @@ from struckpieces.piles import hurried, hurried_striking, is_safe, lost, unsafe_
 from struckpieces.rests import one_rest
 from struckpieces.tables import is_idle, least_left
 from tests.cases import Case
-from tests.plain import AB, ABBA, BB, K, NESTS, does_let, random_book, seeded, texts
+from tests.plain import AB, ABBA, BB, HUGE, K, NESTS, random_book, seeded, texts
 from tests.things import not_logs
 
-# Its least machine has more than 60 standings.
-HUGE = Book(("ccc", "ccb", "bc", "bb", "a", "ca", "bbb", "cab", "bcb"))
 FEW = {"a": 14, "ab": 9, "abc": 6, "abcd": 5, "abcdefgh": 3}
 
 

@@ -4,30 +4,21 @@ import copy
 
 from struckpieces.books import Book, letters
 from struckpieces.errors import BadText, Gone, LogError, NoEntry, NoFlag, NoLetter, NoReader, NoText, NotEnough
-from struckpieces.errors import NothingDone, NoValues, ReaderThere, TooMany
+from struckpieces.errors import NothingDone, NoValues, ReaderThere
 from struckpieces.free import is_enough
 from struckpieces.harmless import cleaned, harmless_strikes
 from struckpieces.store import Store, relived, restored
 from struckpieces.tables import is_idle
-from tests.cases import JudgedCase, found_machine
-from tests.plain import AB, ABBA, BB, K, NESTS, does_let, random_book, seeded, texts
+from tests.cases import JudgedCase, enough_books, found_machine
+from tests.plain import AB, ABBA, BB, HUGE, K, NESTS, does_let, seeded, texts
 from tests.things import deep_things, huge_integers, not_logs, odd_things
 
-HUGE = Book(("ccc", "ccb", "bc", "bb", "a", "ca", "bbb", "cab", "bcb"))
 SEVEN = Book(("a" * 7, "a" * 8))
 
 
 def books():
     yield from (BB, K, ABBA, SEVEN, Book(("aab", "ab", "bb", "aa")), Book(tuple("abcdefgh")), Book(("aa", "aaa")))
-    chance = seeded(171)
-    for _ in range(40):
-        book = random_book(chance, chance.choice(["a", "ab", "ab", "abc", "abcd"]), 6, 4, True)
-        if is_enough(book):
-            try:
-                found_machine(book)
-                yield book
-            except TooMany:
-                pass
+    yield from enough_books(171)
 
 
 class Plain:
@@ -100,7 +91,8 @@ class Plain:
 
 def step(chance, book, plain):
     """A deed, at random: its name and arguments."""
-    kind = chance.choice(["write"] * 10 + ["clean", "clean", "keep", "reader", "reader", "close", "close", "undo", "undo", "undo"])
+    kinds = ["write"] * 10 + ["clean"] * 2 + ["keep"] + ["reader"] * 2 + ["close"] * 2 + ["undo"] * 3
+    kind = chance.choice(kinds)
     if kind == "write":
         return kind, chance.choice(letters(book)), object()
     if kind == "keep":

@@ -7,13 +7,12 @@ from struckpieces.free import is_enough
 from struckpieces.machines import Machine, is_below, least, turned
 from struckpieces.tongues import closed_by, coming, least_texts, left_of
 from tests.cases import Case
-from tests.plain import AB, ABBA, BB, K, comes_to_all, counter, does_let, is_least, one_struck, only
+from tests.plain import AB, ABBA, BB, HUGE, K, comes_to_all, counter, does_let, is_least, one_struck, only
 from tests.plain import random_book, random_machine, seeded, shortest_first, texts
 from tests.things import deep_things, not_logs, odd_things
 
 # Each letter by itself may be struck: a log comes to what is left of it when letters are taken out anywhere.
 FULL = Book(("a", "b"))
-HUGE = Book(("ccc", "ccb", "bc", "bb", "a", "ca", "bbb", "cab", "bcb"))
 FEW = {"a": 10, "ab": 7, "abc": 5, "abcd": 4}
 
 
