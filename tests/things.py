@@ -2,7 +2,9 @@
 
 from struckpieces.books import Book
 from struckpieces.errors import BadBook, NoLog
+from struckpieces.live import Live
 from struckpieces.machines import Machine
+from struckpieces.store import Store
 
 
 def nested_tuple(depth, core=()):
@@ -52,6 +54,7 @@ def odd_things():
         {}.keys(), {"a": 1}.items(), range(2), slice(0, 1), iter([1]), zip("a", "a"), generated(),
         int, str, tuple, object, object(), len, deep_things, "a".startswith, lambda thing: thing,
         Book(("a",)), Book, Machine("a", ((0,),), (True,)), Machine, NoLog(), BadBook("pieces"), ValueError("a"), property(),
+        Store(Book(("a",))), Store, Live(Book(("a",))), Live,
     ]
 
 
